@@ -1,0 +1,1 @@
+"""Errorspans: independent syntax errors of a text."""

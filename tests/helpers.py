@@ -1,0 +1,121 @@
+"""What several test files need: values of every kind, grammars, and slow second ways to compute."""
+
+import copy
+import random
+
+from errorspans.grammars import Grammar
+
+
+def nested(depth, value):
+    """Return the value inside tuples, lists and dicts by turns, so many deep."""
+    for level in range(depth):
+        value = [(value,), [value], {"k": value}][level % 3]
+    return value
+
+
+# Values of every kind that point 2 lists; none of them is a token, an expression, a window or a pair.
+ODD_VALUES = [
+    0, 1, -1, 10 ** 18, -(10 ** 18), True, False, None, "", " ", "A", "a1", "a b", "^^", "\u00e9", "\n", "a\n",
+    [], ["a"], {}, {"a": "b"}, ["token", "a"], ["a", "b"], (0,), (None,), (True,), ("",), ("A",), ((),), ([],), ({},),
+    (("a",),), ("a", ("b",)), (["a"], ["b"]), [("a",), ("b",)], ("token",), ("token", "A"), ("token", ["a"]),
+    (["token"], "a"), ({"token": 1}, "a"), (None, "a", "b"), nested(30, "a"), nested(30, 0), nested(29, ("token", "a")),
+]
+
+
+def token(name):
+    return ("token", name)
+
+
+def block(name):
+    return ("block", name)
+
+
+AB = Grammar(("sequence", token("a"), token("b")))
+LETS = Grammar(
+    ("sequence", token("let"), token("name"), block("list")),
+    blocks=(("list", "lpar", "rpar", ("sequence", token("num"), ("repeat", ("sequence", token("comma"), token("num"))))),),
+)
+# Blocks in themselves and in one another.
+NESTS = Grammar(
+    ("choice", token("a"), ("sequence", block("x"), ("optional", block("y")))),
+    blocks=(
+        ("x", "o", "c", ("repeat", ("choice", token("a"), block("x"), block("y")))),
+        ("y", "p", "q", ("sequence", token("b"), ("optional", block("x")))),
+    ),
+)
+
+
+def check_for_any_value(case, function, values=ODD_VALUES, expected=False):
+    """Check that function returns the expected bool for each value and leaves the value as it was."""
+    for value in values:
+        before = copy.deepcopy(value)
+        with case.subTest(value=value):
+            case.assertIs(function(value), expected)
+            case.assertEqual(value, before)
+            case.assertIs(type(value), type(before))
+
+
+def expression_texts(grammar, expression, limit):
+    """Return the set of all texts of the expression of at most limit tokens, straight from point 7."""
+    kind = expression[0]
+    if kind == "token":
+        return {(expression[1],)} if limit >= 1 else set()
+    if kind == "block":
+        if limit < 2:
+            return set()
+        _, first, last, inner = grammar.block(expression[1])
+        return {(first,) + text + (last,) for text in expression_texts(grammar, inner, limit - 2)}
+    if kind == "sequence":
+        found = {()}
+        for part in expression[1:]:
+            found = joined(found, grammar, part, limit)
+        return found
+    if kind == "choice":
+        return set().union(*[expression_texts(grammar, part, limit) for part in expression[1:]])
+    if kind == "optional":
+        return {()} | expression_texts(grammar, expression[1], limit)
+    return repeated_texts(expression_texts(grammar, expression[1], limit), limit)
+
+
+def joined(heads, grammar, part, limit):
+    tails = expression_texts(grammar, part, limit - min([len(head) for head in heads], default=0))
+    return {head + tail for head in heads for tail in tails if len(head + tail) <= limit}
+
+
+def repeated_texts(texts, limit):
+    found = {()}
+    newest = {()}
+    while newest:
+        newest = {head + text for head in newest for text in texts if text and len(head + text) <= limit} - found
+        found |= newest
+    return found
+
+
+def valid_texts(grammar, limit):
+    """Return the set of all valid texts of at most limit tokens."""
+    return repeated_texts(expression_texts(grammar, grammar.item, limit), limit)
+
+
+def random_expression(chance, depth, plain, names):
+    kinds = ["token"] * 3 + ["block"] * (2 if names else 0)
+    if depth > 1:
+        kinds += ["sequence"] * 3 + ["choice"] * 2 + ["repeat", "optional"]
+    kind = chance.choice(kinds)
+    if kind == "token":
+        return (kind, chance.choice(plain))
+    if kind == "block":
+        return (kind, chance.choice(names))
+    count = chance.randint(2, 3) if kind in ("sequence", "choice") else 1
+    return (kind,) + tuple([random_expression(chance, depth - 1, plain, names) for _ in range(count)])
+
+
+def random_grammars(count, seed):
+    """Return so many small grammars, the same ones in each run; some have blocks that are never read."""
+    chance = random.Random(seed)
+    found = []
+    for _ in range(count):
+        names = ["x", "y"][:chance.randint(0, 2)]
+        plain = ["a", "b"][:chance.randint(1, 2)]
+        blocks = [(name, "o" + name, "c" + name, random_expression(chance, 3, plain, names)) for name in names]
+        found.append(Grammar(random_expression(chance, 3, plain, names), blocks=tuple(blocks)))
+    return found
