@@ -37,7 +37,7 @@ def count_leaves(value, levels):
         if count == 0:
             return 0
         total += count
-        # A value may hold the same parts again and again: counting on would take far too long.
+        # A value may hold the same parts again and again; counting all of them would take long.
         if total > MOST_LEAVES:
             return total
     return total

@@ -2,13 +2,17 @@
 
 from errorspans.errors import BadGrammar, NoBlock
 from errorspans.expressions import LEAF_KINDS, is_expression, leaves
+from errorspans.rules import Rules
 from errorspans.tokens import is_token
 
 MOST_BLOCKS = 4
 
 
 class Grammar:
-    """An item and blocks (name, open token, close token, expression), ascending by name."""
+    """An item and blocks (name, open token, close token, expression), ascending by name.
+
+    rules is what reading needs of them; it is made here, once, because each step of reading asks for it.
+    """
 
     def __init__(self, item, *, blocks=()):
         if not is_expression(item):
@@ -22,6 +26,7 @@ class Grammar:
             raise BadGrammar("names")
         self.item = item
         self.blocks = blocks
+        self.rules = Rules(item, blocks)
 
     def __eq__(self, other):
         return isinstance(other, Grammar) and self.item == other.item and self.blocks == other.blocks
@@ -84,4 +89,4 @@ def mirrored_expression(expression):
     parts = [mirrored_expression(part) for part in expression[1:]]
     if expression[0] == "sequence":
         parts = parts[::-1]
-    return (expression[0], *parts)
+    return (expression[0],) + tuple(parts)

@@ -11,3 +11,8 @@ def is_token(value):
     if not isinstance(value, str):
         return False
     return 1 <= len(value) <= MOST_LETTERS and all([letter in LETTERS for letter in value])
+
+
+def is_text(value):
+    """Return whether any value is a text."""
+    return isinstance(value, tuple) and all([is_token(token) for token in value])

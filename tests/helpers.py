@@ -1,6 +1,7 @@
 """What several test files need: values of every kind, grammars, and slow second ways to compute."""
 
 import copy
+import itertools
 import random
 
 from errorspans.grammars import Grammar
@@ -17,7 +18,7 @@ def nested(depth, value):
 ODD_VALUES = [
     0, 1, -1, 10 ** 18, -(10 ** 18), True, False, None, "", " ", "A", "a1", "a b", "^^", "\u00e9", "\n", "a\n",
     [], ["a"], {}, {"a": "b"}, ["token", "a"], ["a", "b"], (0,), (None,), (True,), ("",), ("A",), ((),), ([],), ({},),
-    (("a",),), ("a", ("b",)), (["a"], ["b"]), [("a",), ("b",)], ("token",), ("token", "A"), ("token", ["a"]),
+    (("a",),), ("a", ("b",)), (["a"], ["b"]), [("a",), ("b",)], ("token", "A"), ("token", ["a"]),
     (["token"], "a"), ({"token": 1}, "a"), (None, "a", "b"), nested(30, "a"), nested(30, 0), nested(29, ("token", "a")),
 ]
 
@@ -94,6 +95,55 @@ def repeated_texts(texts, limit):
 def valid_texts(grammar, limit):
     """Return the set of all valid texts of at most limit tokens."""
     return repeated_texts(expression_texts(grammar, grammar.item, limit), limit)
+
+
+class Oracle:
+    """Decides for texts of any length whether they are valid, straight from point 7, by the places where parts end."""
+
+    def __init__(self, grammar):
+        self.grammar = grammar
+
+    def is_valid(self, text):
+        self.text = text
+        self.known = {}
+        return len(text) in self.stops(("repeat", self.grammar.item), 0)
+
+    def stops(self, expression, begin):
+        """Return the places where a text of the expression that begins at begin may stop."""
+        key = (expression, begin)
+        if key not in self.known:
+            self.known[key] = self.find_stops(expression, begin)
+        return self.known[key]
+
+    def find_stops(self, expression, begin):
+        kind, *parts = expression
+        if kind == "token":
+            return {begin + 1} if self.text[begin:begin + 1] == (parts[0],) else set()
+        if kind == "block":
+            _, first, last, inner = self.grammar.block(parts[0])
+            if self.text[begin:begin + 1] != (first,):
+                return set()
+            return {stop + 1 for stop in self.stops(inner, begin + 1) if self.text[stop:stop + 1] == (last,)}
+        if kind == "choice":
+            return set().union(*[self.stops(part, begin) for part in parts])
+        if kind == "optional":
+            return {begin} | self.stops(parts[0], begin)
+        found = {begin}
+        if kind == "sequence":
+            for part in parts:
+                found = set().union(*[self.stops(part, at) for at in found])
+            return found
+        waiting = [begin]
+        while waiting:
+            new = self.stops(parts[0], waiting.pop()) - found
+            found |= new
+            waiting += sorted(new)
+        return found
+
+
+def all_tuples(words, limit):
+    """Return all tuples of at most limit of these words."""
+    return [found for length in range(limit + 1) for found in itertools.product(words, repeat=length)]
 
 
 def random_expression(chance, depth, plain, names):

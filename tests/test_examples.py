@@ -37,6 +37,66 @@ raises BadGrammar(field='item')
 >>> ab = Grammar(("sequence", ("token", "a"), ("token", "b")))
 >>> mirrored(ab).item
 ('sequence', ('token', 'b'), ('token', 'a'))
+
+>>> from errorspans.grammars import Grammar
+>>> from errorspans.validity import is_valid
+>>> ab = Grammar(("sequence", ("token", "a"), ("token", "b")))
+>>> is_valid(ab, ("a", "b", "a", "b"))
+True
+
+>>> from errorspans.grammars import Grammar
+>>> from errorspans.states import live_states
+>>> g = Grammar(("choice", ("token", "a"), ("block", "x")), blocks=(("x", "o", "c", ("block", "x")),))
+>>> live_states(g)
+(('', 0), ('', 1))
+
+>>> from errorspans.grammars import Grammar
+>>> from errorspans.states import followers
+>>> ab = Grammar(("sequence", ("token", "a"), ("token", "b")))
+>>> followers(ab, ("", 2))
+(('', 1),)
+
+>>> from errorspans.grammars import Grammar
+>>> from errorspans.states import can_end
+>>> ab = Grammar(("sequence", ("token", "a"), ("token", "b")))
+>>> can_end(ab, ("", 1))
+False
+
+>>> from errorspans.grammars import Grammar
+>>> from errorspans.validity import completion
+>>> lets = Grammar(("sequence", ("token", "let"), ("token", "name"), ("block", "list")), blocks=(("list", "lpar", "rpar", ("sequence", ("token", "num"), ("repeat", ("sequence", ("token", "comma"), ("token", "num"))))),))
+>>> completion(lets, ("let", "name", "lpar"))
+('num', 'rpar')
+
+>>> from errorspans.windows import is_window
+>>> is_window(("a", "^"))
+False
+
+>>> from errorspans.grammars import Grammar
+>>> from errorspans.windows import is_good
+>>> ab = Grammar(("sequence", ("token", "a"), ("token", "b")))
+>>> [is_good(ab, ("b", "a")), is_good(ab, ("a", "a"))]
+[True, False]
+
+>>> from errorspans.grammars import Grammar
+>>> from errorspans.windows import expected
+>>> ab = Grammar(("sequence", ("token", "a"), ("token", "b")))
+>>> expected(ab, ("^",))
+('$', 'a')
+
+>>> from errorspans.grammars import Grammar
+>>> from errorspans.windows import context, shows_context
+>>> ab = Grammar(("sequence", ("token", "a"), ("token", "b")))
+>>> shows_context(ab, ("b", "a"), context(ab, ("b", "a")))
+True
+
+>>> from errorspans.grammars import Grammar
+>>> from errorspans.scanner import Scanner
+>>> ab = Grammar(("sequence", ("token", "a"), ("token", "b")))
+>>> scanner = Scanner(ab)
+>>> scanner.feed("b")
+>>> [scanner.states(), scanner.expected()]
+[(('', 2),), ('$', 'a')]
 '''
 
 
