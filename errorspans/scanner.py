@@ -62,6 +62,12 @@ class Scanner:
         twin.ended = self.ended
         return twin
 
+    def is_like(self, other):
+        """Return whether another scanner of the same grammar goes on just as this one."""
+        if (self.at_start, self.ended) != (other.at_start, other.ended):
+            return False
+        return self.held == other.held and self.stack == other.stack
+
     def states_by(self, value):
         """Return the states that a step leads to, () if it fails; for an open token, those behind the whole block."""
         rules = self.grammar.rules

@@ -5,6 +5,10 @@ import itertools
 import random
 
 from errorspans.grammars import Grammar
+from errorspans.scanner import Scanner
+from errorspans.tokens import END, START
+from errorspans.validity import completion
+from errorspans.windows import is_good
 
 
 def nested(depth, value):
@@ -44,6 +48,32 @@ NESTS = Grammar(
         ("y", "p", "q", ("sequence", token("b"), ("optional", block("x")))),
     ),
 )
+
+
+def check_error_for_any_value(case, function, error, field, values=ODD_VALUES):
+    """Check that function raises the error for each value, which it holds unchanged under the name of that field."""
+    for value in values:
+        before = copy.deepcopy(value)
+        with case.subTest(value=value):
+            with case.assertRaises(error) as caught:
+                function(value)
+            case.assertIs(type(caught.exception), error)
+            case.assertIs(getattr(caught.exception, field), value)
+            case.assertEqual(value, before)
+            case.assertIs(type(value), type(before))
+
+
+def check_arguments_stay(case, function, *arguments):
+    """Check that a call gives the same twice and leaves its arguments as they were."""
+    before = [facts_of(argument) for argument in arguments]
+    result = function(*arguments)
+    case.assertEqual(function(*arguments), result)
+    case.assertEqual([facts_of(argument) for argument in arguments], before)
+
+
+def facts_of(value):
+    """Return a copy of the value; for a grammar, of its attributes."""
+    return copy.deepcopy((value.item, value.blocks) if isinstance(value, Grammar) else value)
 
 
 def check_for_any_value(case, function, values=ODD_VALUES, expected=False):
@@ -169,3 +199,91 @@ def random_grammars(count, seed):
         blocks = [(name, "o" + name, "c" + name, random_expression(chance, 3, plain, names)) for name in names]
         found.append(Grammar(random_expression(chance, 3, plain, names), blocks=tuple(blocks)))
     return found
+
+
+def windows_of(text):
+    """Return a dict of all windows of the text by (begin, stop), as point 11 numbers them."""
+    marked = [START, *text, END]
+    return {(begin, stop): tuple([marked[at + 1] for at in range(begin, stop)])
+            for begin in range(-1, len(text) + 2) for stop in range(begin, len(text) + 2)}
+
+
+def bad_windows(grammar, text):
+    """Return the list of (begin, stop) of all bad windows of the text, ascending."""
+    return [at for at, window in windows_of(text).items() if not is_good(grammar, window)]
+
+
+def hits(place, window):
+    """Return whether a place hits a window (begin, stop)."""
+    return window[0] <= place < window[1]
+
+
+def cuts(gap, window):
+    """Return whether a gap cuts a window (begin, stop)."""
+    return window[0] < gap < window[1]
+
+
+def smallest_choices(count, windows, touches):
+    """Return all tuples, ascending, of as few numbers below count as possible that touch all windows."""
+    for many in range(count + 1):
+        found = [choice for choice in itertools.combinations(range(count), many)
+                 if all([any([touches(number, window) for number in choice]) for window in windows])]
+        if found:
+            return found
+    raise AssertionError("no choice touches all windows")
+
+
+def ranges_of(choices):
+    """Return the tuple of (least, greatest) of the first ones, the second ones and so on of all choices."""
+    return tuple([(min(column), max(column)) for column in zip(*choices)])
+
+
+def most_apart(windows, share):
+    """Return the greatest number of these windows no two of which share something."""
+    if not windows:
+        return 0
+    first, *rest = windows
+    with_first = 1 + most_apart([window for window in rest if not share(first, window)], share)
+    if not any([share(first, window) for window in rest]):
+        return with_first
+    return max(with_first, most_apart(rest, share))
+
+
+def share_element(one, other):
+    return max(one[0], other[0]) < min(one[1], other[1])
+
+
+def share_gap(one, other):
+    return max(one[0], other[0]) + 1 < min(one[1], other[1])
+
+
+def random_valid_text(chance, grammar, length):
+    """Return a valid text of at least so many tokens, if the grammar has one, with blocks at most about 35 deep."""
+    scanner = Scanner(grammar, at_start=True)
+    text = ()
+    while len(text) < length:
+        words = [word for word in scanner.expected() if word != END]
+        if not words:
+            return text
+        text += (completion(grammar, text)[0] if scanner.depth() > 35 else chance.choice(words),)
+        scanner.feed(text[-1])
+    return text + completion(grammar, text)
+
+
+def random_text(chance, grammar, longest):
+    """Return a text of at most so many tokens: a valid one with some changes, or any tokens."""
+    words = grammar.tokens() + (("z",) if chance.random() < 0.2 else ())
+    if chance.random() < 0.4:
+        return tuple([chance.choice(words) for _ in range(chance.randint(0, longest))])
+    text = list(random_valid_text(chance, grammar, chance.randint(0, longest)))[:longest]
+    for _ in range(chance.randint(0, 2)):
+        at = chance.randint(0, len(text))
+        text[at:at + chance.randint(0, 1)] = [chance.choice(words) for _ in range(chance.randint(0, 1))]
+    return tuple(text[:longest])
+
+
+def random_cases(seed, grammars, texts, longest):
+    """Return pairs of a small grammar and a short text, the same ones in each run."""
+    chance = random.Random(seed)
+    return [(grammar, random_text(chance, grammar, longest))
+            for grammar in [AB, LETS, NESTS, *random_grammars(grammars, seed)] for _ in range(texts)]

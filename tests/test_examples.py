@@ -97,6 +97,58 @@ True
 >>> scanner.feed("b")
 >>> [scanner.states(), scanner.expected()]
 [(('', 2),), ('$', 'a')]
+
+>>> from errorspans.conflicts import window_at
+>>> window_at(("a", "b"), -1, 1)
+('^', 'a')
+
+>>> from errorspans.grammars import Grammar
+>>> from errorspans.conflicts import reach
+>>> ab = Grammar(("sequence", ("token", "a"), ("token", "b")))
+>>> [reach(ab, ("a", "a", "b"), -1), reach(ab, ("a", "a", "b"), 1)]
+[1, 4]
+
+>>> from errorspans.grammars import Grammar
+>>> from errorspans.conflicts import conflicts
+>>> ab = Grammar(("sequence", ("token", "a"), ("token", "b")))
+>>> conflicts(ab, ("a", "a", "b"))
+((0, 2),)
+
+>>> from errorspans.grammars import Grammar
+>>> from errorspans.spans import error_count
+>>> ab = Grammar(("sequence", ("token", "a"), ("token", "b")))
+>>> error_count(ab, ("b", "a"))
+2
+
+>>> from errorspans.grammars import Grammar
+>>> from errorspans.spans import spans
+>>> ab = Grammar(("sequence", ("token", "a"), ("token", "b")))
+>>> spans(ab, ("b", "a"))
+((0, 0), (1, 2))
+
+>>> from errorspans.grammars import Grammar
+>>> from errorspans.spans import earliest, latest
+>>> ab = Grammar(("sequence", ("token", "a"), ("token", "b")))
+>>> [earliest(ab, ("a", "a", "a")), latest(ab, ("a", "a", "a"))]
+[(0, 2), (1, 3)]
+
+>>> from errorspans.grammars import Grammar
+>>> from errorspans.solutions import count_solutions, is_solution
+>>> ab = Grammar(("sequence", ("token", "a"), ("token", "b")))
+>>> [count_solutions(ab, ("a", "a", "a")), is_solution(ab, ("a", "a", "a"), (0, 3))]
+[3, False]
+
+>>> from errorspans.grammars import Grammar
+>>> from errorspans.solutions import solution_at
+>>> ab = Grammar(("sequence", ("token", "a"), ("token", "b")))
+>>> solution_at(ab, ("a", "a", "a"), 0)
+(0, 2)
+
+>>> from errorspans.grammars import Grammar
+>>> from errorspans.witnesses import is_witness, witness
+>>> ab = Grammar(("sequence", ("token", "a"), ("token", "b")))
+>>> [len(witness(ab, ("b", "a"))), is_witness(ab, ("b", "a"), ((-1, 1), (1, 3)))]
+[2, True]
 '''
 
 
