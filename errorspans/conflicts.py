@@ -6,6 +6,10 @@ START has index -1, the tokens of a text of n tokens 0 to n - 1, END n. The wind
 from errorspans.scanner import Scanner
 from errorspans.tokens import END, START
 
+# How many elements a place and a gap take away: the place of an element takes this one, a gap none.
+PLACE = 1
+GAP = 0
+
 
 def window_at(text, begin, stop):
     """Return the window (begin, stop) of the text."""
@@ -61,8 +65,8 @@ def fed_groups(groups, word):
     return alive
 
 
-def unhit_windows(text, places):
-    """Return the list of the longest windows that none of the ascending places hits: ahead of each, behind the last."""
-    begins = [-1] + [place + 1 for place in places]
-    stops = list(places) + [len(text) + 1]
+def windows_apart(text, numbers, width):
+    """Return the list of the windows into which ascending places or gaps, of that width, part the marked text."""
+    begins = [-1] + [number + width for number in numbers]
+    stops = list(numbers) + [len(text) + 1]
     return [window_at(text, begin, stop) for begin, stop in zip(begins, stops)]

@@ -62,6 +62,11 @@ class Scanner:
         twin.ended = self.ended
         return twin
 
+    def go_on_from(self, states, stack):
+        """Take this set and this stack, a sequence of (block name, set), for the present ones."""
+        self.held = states
+        self.stack = list(stack)
+
     def is_like(self, other):
         """Return whether another scanner of the same grammar goes on just as this one."""
         if (self.at_start, self.ended) != (other.at_start, other.ended):

@@ -1,7 +1,7 @@
 """Solutions: as few places as possible that hit all bad windows."""
 
 from errorspans.checks import are_places, is_number_of
-from errorspans.conflicts import all_reaches, unhit_windows
+from errorspans.conflicts import PLACE, all_reaches, windows_apart
 from errorspans.errors import NoSolution
 from errorspans.spans import error_count, spans
 from errorspans.windows import is_good
@@ -14,7 +14,7 @@ def is_solution(grammar, text, value):
     """Return whether any value is a solution."""
     if not are_places(value, text) or len(value) != error_count(grammar, text):
         return False
-    return all([is_good(grammar, window) for window in unhit_windows(text, value)])
+    return all([is_good(grammar, window) for window in windows_apart(text, value, PLACE)])
 
 
 def count_solutions(grammar, text):

@@ -23,6 +23,13 @@ def expected(grammar, window):
 
 def context(grammar, window):
     """Return texts (before, after) that make the window's tokens valid between them, None if the window is bad."""
+    return context_by(grammar, mirrored(grammar), window)
+
+
+def context_by(grammar, mirror, window):
+    """Return what context returns; mirror is the mirrored grammar, which is made once for many windows."""
+    if window == ():
+        return ((), ())
     scanner = scanned(grammar, window)
     if not scanner.is_alive():
         return None
@@ -31,7 +38,7 @@ def context(grammar, window):
     if has_start(window):
         return ((), after)
     # What comes ahead of a text comes behind the reversed one, by the mirrored grammar.
-    before = completion(mirrored(grammar), (tokens + after)[::-1])[::-1]
+    before = completion(mirror, (tokens + after)[::-1])[::-1]
     return (before, after)
 
 
@@ -48,8 +55,7 @@ def shows_context(grammar, window, value):
 def scanned(grammar, window):
     """Return a scanner that has read the window."""
     scanner = Scanner(grammar, at_start=has_start(window))
-    words = window[1:] if has_start(window) else window
-    for word in words:
+    for word in behind_start(window):
         scanner.feed(word)
     return scanner
 
@@ -64,7 +70,12 @@ def has_end(window):
     return window[-1:] == (END,)
 
 
+def behind_start(window):
+    """Return the window without START."""
+    return window[1:] if has_start(window) else window
+
+
 def tokens_of(window):
     """Return what stands between the markers."""
-    inner = window[1:] if has_start(window) else window
+    inner = behind_start(window)
     return inner[:-1] if has_end(inner) else inner

@@ -3,7 +3,7 @@
 import random
 import unittest
 
-from errorspans.conflicts import conflicts, reach, window_at
+from errorspans.conflicts import all_reaches, conflicts, reach, window_at
 from errorspans.grammars import Grammar
 from errorspans.tokens import END, START
 from errorspans.windows import is_good, is_window
@@ -90,6 +90,7 @@ class ReachTest(unittest.TestCase):
             with self.subTest(item=grammar.item, blocks=grammar.blocks, text=text):
                 expected = [max([stop for low, stop in good if low == begin]) for begin in range(-1, len(text) + 2)]
                 self.assertEqual(self.reaches(grammar, text), expected)
+                self.assertEqual(all_reaches(grammar, text), expected)
 
 
 class ConflictsTest(unittest.TestCase):

@@ -149,6 +149,56 @@ True
 >>> ab = Grammar(("sequence", ("token", "a"), ("token", "b")))
 >>> [len(witness(ab, ("b", "a"))), is_witness(ab, ("b", "a"), ((-1, 1), (1, 3)))]
 [2, True]
+
+>>> from errorspans.grammars import Grammar
+>>> from errorspans.refutations import refutation, shows_refutation
+>>> ab = Grammar(("sequence", ("token", "a"), ("token", "b")))
+>>> shows_refutation(ab, ("a", "a"), refutation(ab, ("a", "a")))
+True
+
+>>> from errorspans.grammars import Grammar
+>>> from errorspans.refutations import shows_refutation
+>>> ab = Grammar(("sequence", ("token", "a"), ("token", "b")))
+>>> shows_refutation(ab, ("a", "a"), ((((("", 0), ("", 1), ("", 2)), ())), ((("", 1), ("", 2)), ())))
+False
+
+>>> from errorspans.repairs import apply_repair
+>>> apply_repair(("a", "a", "b"), ((1, ("b", "a")),))
+('a', 'b', 'a', 'b')
+
+>>> from errorspans.grammars import Grammar
+>>> from errorspans.repairs import is_repair, repair
+>>> ab = Grammar(("sequence", ("token", "a"), ("token", "b")))
+>>> is_repair(ab, ("b", "a"), repair(ab, ("b", "a")))
+True
+
+>>> from errorspans.grammars import Grammar
+>>> from errorspans.repairs import repair_at
+>>> ab = Grammar(("sequence", ("token", "a"), ("token", "b")))
+>>> repair_at(ab, ("a", "a", "a"), (0, 3))
+None
+
+>>> from errorspans.grammars import Grammar
+>>> from errorspans.fixes import fix, is_fix
+>>> ab = Grammar(("sequence", ("token", "a"), ("token", "b")))
+>>> [is_fix(ab, ("a", "a", "a"), 1, ()), fix(ab, ("a", "b"), 0)]
+[True, None]
+
+>>> from errorspans.grammars import Grammar
+>>> from errorspans.fixes import quick_fixes
+>>> ab = Grammar(("sequence", ("token", "a"), ("token", "b")))
+>>> quick_fixes(ab, ("a", "a", "b"), 0)
+((0, ()), (0, ('a', 'b')), (1, ()), (1, ('b', 'a')))
+
+>>> from errorspans.grammars import Grammar
+>>> from errorspans.gaps import gap_spans
+>>> ab = Grammar(("sequence", ("token", "a"), ("token", "b")))
+>>> [gap_spans(ab, ("a", "a", "b")), gap_spans(ab, ("a", "a", "a"))]
+[((1, 1),), ((1, 1), (2, 2), (3, 3))]
+
+>>> from errorspans.gaps import apply_insertions
+>>> apply_insertions(("a", "a", "b"), ((1, ("b",)),))
+('a', 'b', 'a', 'b')
 '''
 
 

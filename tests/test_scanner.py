@@ -4,12 +4,11 @@ import copy
 import random
 import unittest
 
-from errorspans.expressions import leaves
 from errorspans.grammars import Grammar
 from errorspans.scanner import Scanner
-from errorspans.states import can_end, followers, live_states
+from errorspans.states import live_states
 from errorspans.tokens import END, START
-from helpers import AB, LETS, NESTS, ODD_VALUES, block, random_grammars, token
+from helpers import AB, LETS, NESTS, ODD_VALUES, Model, block, random_grammars, token
 
 A, B = token("a"), token("b")
 
@@ -23,52 +22,6 @@ def fed(grammar, words, at_start=False):
     for word in words:
         scanner.feed(word)
     return scanner
-
-
-class Model:
-    """The steps of point 10, written once more over sets, for tokens and END alone."""
-
-    def __init__(self, grammar, at_start):
-        self.grammar, self.at_start = grammar, at_start
-        self.states = {("", 0)} if at_start else set(live_states(grammar))
-        self.stack, self.ended = [], False
-
-    def leaf(self, state):
-        owner, number = state
-        expression = self.grammar.item if owner == "" else self.grammar.block(owner)[3]
-        return leaves(expression)[number - 1] if number else None
-
-    def by(self, leaf):
-        return {at for state in self.states for at in followers(self.grammar, state) if self.leaf(at) == leaf}
-
-    def leaves_owner(self, owner):
-        return any([state[0] == owner and can_end(self.grammar, state) for state in self.states])
-
-    def step(self, word):
-        """Take a step; return whether it did not fail."""
-        if self.ended:
-            return False
-        if word == END:
-            self.ended = not self.stack and self.leaves_owner("")
-            return self.ended
-        for name, first, last, _ in self.grammar.blocks:
-            if word == first:
-                self.stack.append((name, self.by(block(name))))
-                self.states = {(name, 0)}
-                return bool(self.stack[-1][1])
-            if word == last:
-                return self.close(name)
-        self.states = self.by(token(word))
-        return bool(self.states)
-
-    def close(self, name):
-        if not self.leaves_owner(name):
-            return False
-        if self.stack:
-            top, self.states = self.stack.pop()
-            return top == name
-        self.states = {state for state in live_states(self.grammar) if self.leaf(state) == block(name)}
-        return not self.at_start
 
 
 class ScannerTest(unittest.TestCase):
