@@ -75,6 +75,10 @@ class Rules:
                     waiting.append((name, 0))
         return found
 
+    def behind_block(self, name):
+        """Return the ascending tuple of the live states behind a block of that name, wherever it stands."""
+        return tuple([state for state in self.live if self.leaf_at.get(state) == ("block", name)])
+
 
 def states_behind(shape, state, ends):
     """Return the list of the states that reading one leaf may lead to, live or not, ascending."""

@@ -95,10 +95,7 @@ class Scanner:
         if self.stack:
             last, surrounding = self.stack[-1]
             return surrounding if last == name else ()
-        if self.at_start:
-            return ()
-        rules = self.grammar.rules
-        return tuple([state for state in rules.live if rules.leaf_at.get(state) == ("block", name)])
+        return () if self.at_start else self.grammar.rules.behind_block(name)
 
     def followers_by(self, leaf):
         """Return the followers of the set by that leaf."""

@@ -199,6 +199,46 @@ None
 >>> from errorspans.gaps import apply_insertions
 >>> apply_insertions(("a", "a", "b"), ((1, ("b",)),))
 ('a', 'b', 'a', 'b')
+
+>>> from errorspans.grammars import Grammar
+>>> from errorspans.reporter import Reporter
+>>> ab = Grammar(("sequence", ("token", "a"), ("token", "b")))
+>>> reporter = Reporter(ab)
+>>> [reporter.feed("a"), reporter.feed("a"), reporter.feed("b"), reporter.finish()]
+[None, 1, None, None]
+
+>>> from errorspans.grammars import Grammar
+>>> from errorspans.documents import Document
+>>> ab = Grammar(("sequence", ("token", "a"), ("token", "b")))
+>>> document = Document(ab, text=("a", "b"))
+>>> document.insert_tokens(1, ("a",))
+>>> [document.text(), document.spans()]
+[('a', 'a', 'b'), ((0, 1),)]
+
+>>> from errorspans.grammars import Grammar
+>>> from errorspans.documents import Document
+>>> ab = Grammar(("sequence", ("token", "a"), ("token", "b")))
+>>> document = Document(ab)
+>>> document.replace_range(0, 1, ())
+raises BadRange(value=(0, 1))
+
+>>> from errorspans.grammars import Grammar
+>>> from errorspans.longtexts import long_error_count
+>>> ab = Grammar(("sequence", ("token", "a"), ("token", "b")))
+>>> long_error_count(ab, ((10 ** 18, ("a",)),))
+500000000000000000
+
+>>> from errorspans.grammars import Grammar
+>>> from errorspans.longtexts import long_span
+>>> ab = Grammar(("sequence", ("token", "a"), ("token", "b")))
+>>> long_span(ab, ((10 ** 18, ("a",)), (1, ("b",))), 2)
+(4, 5)
+
+>>> from errorspans.grammars import Grammar
+>>> from errorspans.comparing import difference
+>>> ab = Grammar(("sequence", ("token", "a"), ("token", "b")))
+>>> len(difference(ab, Grammar(("sequence", ("token", "a"), ("optional", ("token", "b"))))))
+2
 '''
 
 

@@ -3,17 +3,22 @@
 import random
 import unittest
 
+from errorspans.comparing import difference, unlike_text
 from errorspans.conflicts import window_at
+from errorspans.documents import Document
 from errorspans.fixes import fix, quick_fixes
 from errorspans.gaps import apply_insertions, gap_count, gap_spans
-from errorspans.grammars import mirrored
+from errorspans.grammars import Grammar, mirrored
+from errorspans.longtexts import long_error_count, long_span
 from errorspans.repairs import apply_repair, is_repair, repair
+from errorspans.reporter import Reporter
 from errorspans.solutions import count_solutions, solution_at
-from errorspans.spans import error_count, spans
+from errorspans.spans import error_count, latest, spans
+from errorspans.tokens import START
 from errorspans.windows import context
 from errorspans.witnesses import is_witness, witness
-from helpers import Oracle, bad_windows, cuts, known_cases, most_apart, random_cases, share_element, share_gap, \
-    smallest_choices
+from helpers import LETS, NESTS, Oracle, all_tuples, bad_windows, cuts, known_cases, most_apart, random_cases, \
+    random_grammars, share_element, share_gap, smallest_choices
 
 
 class DualityTest(unittest.TestCase):
@@ -77,6 +82,120 @@ class IndependenceTest(unittest.TestCase):
                     self.check_fix(grammar, text, place, tokens)
                     text = apply_repair(text, ((place, tokens),))
                 self.assertTrue(Oracle(grammar).is_valid(text))
+
+
+class EarlyAndFinalTest(unittest.TestCase):
+    """Guarantee (d)."""
+
+    def test_each_error_is_reported_where_it_is_certain(self):
+        for grammar, text in random_cases(72, 60, 4, 5):
+            endings = all_tuples(grammar.tokens()[:3], 3)
+            reporter = Reporter(grammar)
+            for at, word in enumerate(text):
+                before = reporter.places()
+                reporter.feed(word)
+                places = reporter.places()
+                window = text[places[-1] + 1:at + 1] if places else (START,) + text[:at + 1]
+                going_on = endings + [context(grammar, window)[1]]
+                with self.subTest(item=grammar.item, blocks=grammar.blocks, text=text, at=at):
+                    self.assertEqual(places[:len(before)], before)
+                    counts = [error_count(grammar, text[:at + 1] + ending) for ending in going_on]
+                    self.assertEqual(min(counts), len(places))
+
+    def test_reports_are_the_greatest_places_of_the_spans(self):
+        for grammar, text in random_cases(73, 120, 6, 12):
+            reporter = Reporter(grammar)
+            for word in text:
+                reporter.feed(word)
+            reporter.finish()
+            with self.subTest(item=grammar.item, blocks=grammar.blocks, text=text):
+                self.assertEqual(reporter.places(), latest(grammar, text))
+
+    def test_reports_of_a_text_stay_in_each_longer_one(self):
+        chance = random.Random(74)
+        for grammar, text in random_cases(75, 80, 4, 8):
+            reporter = Reporter(grammar)
+            for word in text:
+                reporter.feed(word)
+            places = reporter.places()
+            for _ in range(6):
+                reporter.feed(chance.choice((*grammar.tokens(), "z")))
+                self.assertEqual(reporter.places()[:len(places)], places)
+            reporter.finish()
+            self.assertEqual(reporter.places()[:len(places)], places)
+
+
+class HistoryTest(unittest.TestCase):
+    """Guarantee (f)."""
+
+    def check(self, document, grammar, text):
+        self.assertEqual(document.text(), text)
+        self.assertEqual(document.spans(), spans(grammar, text))
+        self.assertEqual(document.error_count(), error_count(grammar, text))
+        self.assertEqual(document, Document(grammar, text=text))
+
+    def test_documents_behind_edits_and_undos(self):
+        chance = random.Random(76)
+        for grammar, text in random_cases(77, 50, 3, 7):
+            document = Document(grammar, text=text)
+            texts, at = [text], 0
+            for _ in range(25):
+                if chance.random() < 0.5:
+                    begin = chance.randint(0, len(document))
+                    stop = chance.randint(begin, min(len(document), begin + 2))
+                    tokens = tuple([chance.choice((*grammar.tokens(), "z")) for _ in range(chance.randint(0, 2))])
+                    texts, at = texts[:at + 1] + [texts[at][:begin] + tokens + texts[at][stop:]], at + 1
+                    document.edit(lambda inner: inner.replace_range(begin, stop, tokens))
+                elif chance.random() < 0.6 and at > 0:
+                    document.undo()
+                    at -= 1
+                elif at < len(texts) - 1:
+                    document.redo()
+                    at += 1
+                with self.subTest(item=grammar.item, blocks=grammar.blocks, text=texts[at]):
+                    self.check(document, grammar, texts[at])
+
+    def test_repeated_texts_as_written_out(self):
+        chance = random.Random(78)
+        for grammar, text in random_cases(79, 80, 3, 6):
+            brackets = [word for kept in grammar.blocks for word in kept[1:3]]
+            words = [word for word in (*grammar.tokens(), "z") if word not in brackets]
+            pieces = ((1, text), (chance.randint(0, 30), tuple([chance.choice(words) for _ in range(chance.randint(1, 3))])),
+                      (1, text[::-1]))
+            found = spans(grammar, tuple([word for times, part in pieces for _ in range(times) for word in part]))
+            with self.subTest(item=grammar.item, blocks=grammar.blocks, pieces=pieces):
+                self.assertEqual(long_error_count(grammar, pieces), len(found))
+                for number, span in enumerate(found):
+                    self.assertEqual(long_span(grammar, pieces, number), span)
+
+
+class TwoGrammarsTest(unittest.TestCase):
+    """Guarantee (g)."""
+
+    def test_error_counts_are_equal_just_where_no_window_differs(self):
+        alike = 0
+        grammars = [grammar for grammar in random_grammars(160, 80) if not grammar.blocks]
+        for one, other in zip(grammars, grammars[1:]):
+            words = sorted(set(one.tokens()) | set(other.tokens()))
+            texts = all_tuples(words, 5)
+            with self.subTest(one=one.item, other=other.item):
+                if difference(one, other) is None:
+                    alike += 1
+                    self.assertEqual([error_count(one, text) for text in texts], [error_count(other, text) for text in texts])
+                else:
+                    text = unlike_text(one, other)
+                    self.assertNotEqual(error_count(one, text), error_count(other, text))
+        self.assertGreater(alike, 3)
+
+    def test_error_counts_are_equal_with_blocks_written_otherwise(self):
+        chance = random.Random(81)
+        for grammar in [LETS, NESTS, *random_grammars(60, 82)]:
+            blocks = tuple([kept[:3] + (("choice", kept[3], kept[3]),) for kept in grammar.blocks])
+            other = Grammar(("repeat", grammar.item), blocks=blocks)
+            self.assertIs(difference(grammar, other), None)
+            for _ in range(8):
+                text = tuple([chance.choice((*grammar.tokens(), "z")) for _ in range(chance.randint(0, 12))])
+                self.assertEqual(spans(grammar, text), spans(other, text))
 
 
 class InsertionsTest(unittest.TestCase):

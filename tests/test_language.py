@@ -6,6 +6,8 @@ import pathlib
 import re
 import unittest
 
+from errorspans import errors
+
 FOLDER = pathlib.Path(__file__).resolve().parent.parent / "errorspans"
 FILES = sorted([path for path in FOLDER.rglob("*") if path.is_file() and path.parent.name != "__pycache__"])
 
@@ -30,6 +32,7 @@ BARRED_NAMES = set("""register mro elements open input version_info with_traceba
 BARRED_WORDS = re.compile(r"\b(type|typing|typing_extensions|enum|Enum|IntEnum|StrEnum|Flag|IntFlag|Generic|Protocol|ABC|"
                           r"ABCMeta|namedtuple|NamedTuple|TypedDict|TYPE_CHECKING|abstractmethod)\b"
                           r"|dataclass|overload|contextmanager")
+OWN_ERRORS = {name for name, value in vars(errors).items() if isinstance(value, type)}
 TAKE_LISTS = {"any", "all", "min", "max", "sum", "sorted"}
 
 
@@ -110,12 +113,54 @@ class LanguageTest(unittest.TestCase):
                 elif isinstance(node, ast.ImportFrom):
                     bound += [alias.name for alias in node.names]
                 elif isinstance(node, ast.Assign):
+                    self.assertEqual(len(node.targets), 1, name)
+                    if not self.is_table_of(node.value, bound):
+                        ast.literal_eval(node.value)
                     bound += [target.id for target in node.targets]
-                    ast.literal_eval(node.value)
                 else:
                     self.assertIsInstance(node, (ast.FunctionDef, ast.ClassDef), (name, node.lineno))
                     bound.append(node.name)
             self.assertEqual(len(bound), len(set(bound)), name)
+
+    def is_table_of(self, value, names):
+        """Return whether a value at module level is a dict of functions defined above."""
+        return isinstance(value, ast.Dict) and all([isinstance(part, ast.Name) and part.id in names for part in value.values])
+
+    def test_finally(self):
+        for name, node in self.nodes(ast.Try):
+            rows = list(node.finalbody)
+            while rows:
+                row = rows.pop()
+                if isinstance(row, ast.If):
+                    self.assertRegex(ast.unparse(row.test), r"^[a-z.]+ is (not )?None$", (name, row.lineno))
+                    rows += row.body + row.orelse
+                else:
+                    self.assertIsInstance(row, (ast.Assign, ast.Pass), (name, row.lineno))
+                    self.assertIsInstance(row.value, (ast.Name, ast.Attribute, ast.Constant), (name, row.lineno))
+                    self.assertIsInstance(row.targets[0], (ast.Name, ast.Attribute), (name, row.lineno))
+
+    def test_handlers(self):
+        for name, node in self.nodes(ast.ExceptHandler):
+            self.assertIsInstance(node.type, ast.Name, (name, node.lineno))
+            self.assertIn(node.type.id, {*OWN_ERRORS, "KeyError"}, (name, node.lineno))
+        for name, node in self.nodes(ast.Raise):
+            if node.exc is not None:
+                self.assertIn(called_name(node.exc), OWN_ERRORS, (name, node.lineno))
+
+    def test_special_methods_end_as_they_must(self):
+        for name, node in self.nodes(ast.FunctionDef):
+            if node.name in ("__eq__", "__len__"):
+                self.assertIsInstance(node.body[-1], ast.Return, (name, node.lineno))
+            if node.name == "__len__":
+                self.assertEqual([called_name(row.value) for row in node.body], ["len"], (name, node.lineno))
+
+    def test_no_set_is_stored(self):
+        for name, node in self.nodes(ast.Assign):
+            if isinstance(node.value, (ast.Set, ast.SetComp)) or called_name(node.value) == "set":
+                self.fail((name, node.lineno))
+            if isinstance(node.value, ast.BinOp):
+                for side in (node.value.left, node.value.right):
+                    self.assertNotEqual(called_name(side), "set", (name, node.lineno))
 
     def test_imports(self):
         graph = {}
@@ -187,7 +232,7 @@ class LanguageTest(unittest.TestCase):
                 if isinstance(child, ast.GeneratorExp):
                     self.assertIn(called_name(node), {"tuple", "list", "dict"}, (name, child.lineno))
                 if isinstance(child, (ast.Set, ast.SetComp)) or called_name(child) == "set":
-                    fits = called_name(node) in ("sorted", "len") or isinstance(node, (ast.Compare, ast.Assign))
+                    fits = called_name(node) in ("sorted", "len") or isinstance(node, (ast.Compare, ast.BinOp))
                     self.assertTrue(fits, (name, child.lineno))
             if called_name(node) in TAKE_LISTS:
                 self.assertFalse([child for child in node.args if isinstance(child, ast.GeneratorExp)], name)
