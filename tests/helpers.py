@@ -237,6 +237,16 @@ def random_expression(chance, depth, plain, names):
     return (kind,) + tuple([random_expression(chance, depth - 1, plain, names) for _ in range(count)])
 
 
+def wide_expression(chance, count, plain, names):
+    """Return an expression with so many leaves, from 1 to 16."""
+    if count == 1:
+        return chance.choice([token(name) for name in plain] + [block(name) for name in names])
+    parts = chance.randint(2, min(count, 6)) if count <= 6 else chance.randint(4, 6)
+    ends = [0, *sorted(chance.sample(range(1, count), parts - 1)), count]
+    inner = [wide_expression(chance, stop - begin, plain, names) for begin, stop in zip(ends, ends[1:])]
+    return (chance.choice(("sequence", "choice")), *inner)
+
+
 def random_grammars(count, seed):
     """Return so many small grammars, the same ones in each run; some have blocks that are never read."""
     chance = random.Random(seed)

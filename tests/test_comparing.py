@@ -180,15 +180,25 @@ class UnlikeTest(ComparingCase):
             self.check_unlike(with_block(choice(*ways), inner), with_block(choice(*mixed), inner), length)
 
     def test_the_shortest_whole_block_has_blocks(self):
+        def grammar(words, many):
+            ways = [sequence(token(word), block("x"), token(last)) for word, last in words]
+            return Grammar(choice(*ways), blocks=(
+                ("x", "o", "c", choice(block("y"), sequence(*[D] * many))), ("y", "p", "q", optional(block("x"))),
+            ))
+
+        for many in (3, 4, 6):
+            one, other = grammar((("a", "a"), ("b", "b")), many), grammar((("a", "b"), ("b", "a")), many)
+            self.check_unlike(one, other, 6)
+            self.assertEqual(difference(one, other)[1:-1], ("o", "p", "q", "c"))
+
+    def test_blocks_whose_first_leaf_is_never_read(self):
         def grammar(words):
             ways = [sequence(token(word), block("x"), token(last)) for word, last in words]
             return Grammar(choice(*ways), blocks=(
-                ("x", "o", "c", choice(block("y"), sequence(D, D, D, D, D, D))), ("y", "p", "q", optional(block("x"))),
+                ("x", "o", "c", choice(block("y"), sequence(D, D))), ("y", "p", "q", block("y")),
             ))
 
-        one, other = grammar((("a", "a"), ("b", "b"))), grammar((("a", "b"), ("b", "a")))
-        self.check_unlike(one, other, 6)
-        self.assertEqual(difference(one, other)[1:-1], ("o", "p", "q", "c"))
+        self.check_unlike(grammar((("a", "a"), ("b", "b"))), grammar((("a", "b"), ("b", "a"))), 6)
 
     def test_whole_blocks_that_just_one_grammar_reads(self):
         """The grammars have common blocks only with three tokens, but differ within them earlier."""

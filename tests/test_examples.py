@@ -239,6 +239,32 @@ raises BadRange(value=(0, 1))
 >>> ab = Grammar(("sequence", ("token", "a"), ("token", "b")))
 >>> len(difference(ab, Grammar(("sequence", ("token", "a"), ("optional", ("token", "b"))))))
 2
+
+>>> from errorspans.showing import show_expression
+>>> show_expression(("sequence", ("token", "a"), ("choice", ("token", "b"), ("block", "c"))))
+'a ( b | <c> )'
+
+>>> from errorspans.reading import read_expression
+>>> read_expression("a { b } | [ c ]")
+('choice', ('sequence', ('token', 'a'), ('repeat', ('token', 'b'))), ('optional', ('token', 'c')))
+
+>>> from errorspans.grammars import Grammar
+>>> from errorspans.reports import report
+>>> ab = Grammar(("sequence", ("token", "a"), ("token", "b")))
+>>> report(ab, ("a", "a", "b"), 0)
+(0, 1, (0, 2), ('b',))
+
+>>> from errorspans.grammars import Grammar
+>>> from errorspans.reports import report, show_report
+>>> ab = Grammar(("sequence", ("token", "a"), ("token", "b")))
+>>> show_report(report(ab, ("a", "a", "b"), 0))
+'0-1: expected b'
+
+>>> from errorspans.session import Session
+>>> session = Session("item = a b")
+>>> session.say("text a a b")
+>>> session.say("spans")
+'0-1'
 '''
 
 
@@ -257,7 +283,9 @@ def outcome(rows):
 class ExamplesTest(unittest.TestCase):
 
     def test_examples(self):
-        for example in EXAMPLES.strip().split("\n\n"):
+        examples = EXAMPLES.strip().split("\n\n")
+        self.assertEqual(len(examples), 47)
+        for example in examples:
             *rows, result = example.split("\n")
             with self.subTest(example=example):
                 self.assertTrue(all([row.startswith(">>> ") for row in rows]))

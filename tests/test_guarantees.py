@@ -6,19 +6,25 @@ import unittest
 from errorspans.comparing import difference, unlike_text
 from errorspans.conflicts import window_at
 from errorspans.documents import Document
+from errorspans.expressions import is_expression
 from errorspans.fixes import fix, quick_fixes
 from errorspans.gaps import apply_insertions, gap_count, gap_spans
 from errorspans.grammars import Grammar, mirrored
 from errorspans.longtexts import long_error_count, long_span
+from errorspans.reading import read_expression, read_grammar, read_text
 from errorspans.repairs import apply_repair, is_repair, repair
 from errorspans.reporter import Reporter
+from errorspans.reports import report
+from errorspans.session import Session
+from errorspans.showing import show_expression, show_grammar, show_text
 from errorspans.solutions import count_solutions, solution_at
-from errorspans.spans import error_count, latest, spans
+from errorspans.spans import earliest, error_count, latest, spans
 from errorspans.tokens import START
+from errorspans.validity import is_valid
 from errorspans.windows import context
 from errorspans.witnesses import is_witness, witness
-from helpers import LETS, NESTS, Oracle, all_tuples, bad_windows, cuts, known_cases, most_apart, random_cases, \
-    random_grammars, share_element, share_gap, smallest_choices
+from helpers import AB, LETS, NESTS, Oracle, all_tuples, bad_windows, cuts, known_cases, most_apart, random_cases, \
+    random_expression, random_grammars, share_element, share_gap, smallest_choices, wide_expression
 
 
 class DualityTest(unittest.TestCase):
@@ -237,6 +243,80 @@ class InsertionsTest(unittest.TestCase):
             moved = len(tokens) if least > gap else 0
             self.assertLessEqual(least + moved, found[0])
             self.assertLessEqual(found[1], greatest + moved)
+
+
+class ReadBackTest(unittest.TestCase):
+    """Guarantee (h)."""
+
+    def test_expressions(self):
+        chance = random.Random(83)
+        for _ in range(400):
+            expression = random_expression(chance, chance.randint(1, 4), ["a", "b", "abcdefgh"], ["x", "item"])
+            if is_expression(expression):
+                self.assertEqual(read_expression(show_expression(expression)), expression)
+            expression = wide_expression(chance, chance.randint(1, 16), ["a", "b"], ["x"])
+            self.assertEqual(read_expression(show_expression(expression)), expression)
+
+    def test_grammars_and_texts(self):
+        for grammar, text in random_cases(84, 150, 3, 12):
+            self.assertEqual(read_grammar(show_grammar(grammar)), grammar)
+            self.assertEqual(read_text(show_text(text)), text)
+            self.assertEqual(spans(read_grammar(show_grammar(grammar)), text), spans(grammar, text))
+
+
+class AgreementTest(unittest.TestCase):
+    """All ways to count the errors of a text agree."""
+
+    def counts(self, grammar, text):
+        """Return the list of the numbers of errors, as each way finds them."""
+        reporter = Reporter(grammar)
+        told = [reporter.feed(word) for word in text] + [reporter.finish()]
+        session = Session(show_grammar(grammar))
+        session.say("text " + show_text(text))
+        shown = session.say("spans")
+        document = Document(grammar, text=text)
+        half = len(text) // 2
+        pieces = ((1, text[:half]), (0, text), (1, text[half:]))
+        return [
+            error_count(grammar, text), len(spans(grammar, text)), len(latest(grammar, text)), len(earliest(grammar, text)),
+            len(witness(grammar, text)), len(repair(grammar, text)), len(solution_at(grammar, text, 0)),
+            len([place for place in told if place is not None]), len(reporter.places()),
+            document.error_count(), len(document.spans()), document.clone().error_count(),
+            int(session.say("count")), 0 if shown == "-" else len(shown.split(" ")),
+            0 if session.say("repair") == "-" else len(session.say("repair").split(", ")),
+            long_error_count(grammar, pieces), long_error_count(grammar, tuple([(1, (word,)) for word in text])),
+            error_count(mirrored(grammar), text[::-1]),
+        ]
+
+    def test_error_counts(self):
+        found = set()
+        for grammar, text in random_cases(85, 120, 5, 12):
+            counts = self.counts(grammar, text)
+            with self.subTest(item=grammar.item, blocks=grammar.blocks, text=text):
+                self.assertEqual(counts, [counts[0]] * len(counts))
+            found.add(counts[0])
+        self.assertTrue({0, 1, 2, 3, 4} <= found)
+
+    def test_texts_of_400_tokens(self):
+        chance = random.Random(86)
+        for grammar in (AB, LETS, NESTS):
+            text = tuple([chance.choice((*grammar.tokens(), "z")) for _ in range(400)])
+            counts = self.counts(grammar, text)
+            self.assertEqual(counts, [counts[0]] * len(counts))
+
+    def test_spans_and_places(self):
+        for grammar, text in random_cases(87, 80, 4, 9):
+            found = spans(grammar, text)
+            session = Session(show_grammar(grammar))
+            session.say("text " + show_text(text))
+            with self.subTest(item=grammar.item, blocks=grammar.blocks, text=text):
+                self.assertEqual(tuple(zip(earliest(grammar, text), latest(grammar, text))), found)
+                self.assertEqual(Document(grammar, text=text).spans(), found)
+                self.assertEqual(tuple([long_span(grammar, ((1, text),), at) for at in range(len(found))]), found)
+                self.assertEqual(tuple([report(grammar, text, at)[:2] for at in range(len(found))]), found)
+                self.assertEqual(session.say("spans"), " ".join([f"{least}-{greatest}" for least, greatest in found]) or "-")
+                self.assertEqual(int(session.say("solutions")), count_solutions(grammar, text))
+                self.assertEqual(is_valid(grammar, text), not found)
 
 
 class MirrorTest(unittest.TestCase):
